@@ -1,0 +1,1 @@
+"""Wholefaces: meshes of solids with exact angles."""
