@@ -5,7 +5,7 @@ from wholefaces.errors import InvalidText
 from wholefaces.wordnames import FIGURES, LETTERS
 
 SIGNS = ("<=", ">=", "<", ">", "=", "(", ")", ",", ":", "+", "-", "*")
-BEHIND_LETTER = LETTERS + FIGURES + "."
+BEHIND_LETTER = "abcdefghijklmnopqrstuvwxyz0123456789."
 
 
 def end_of_run(text, at, signs):
