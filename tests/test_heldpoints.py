@@ -53,6 +53,9 @@ class HeldPointsTest(unittest.TestCase):
     def test_parameters(self):
         wrong = {"block": WRONG_BLOCKS, "low": WRONG_INTEGERS + (-2, -10 ** 59), "high": WRONG_INTEGERS + (5, 10 ** 59)}
         check_parameters(self, held_points, [("space", PLANE), ("block", R1), ("low", 0), ("high", 2)], wrong)
+        root = ((0, 0, 0), (2, 0, 0), (2, 2, 0), (2, 2, 2))
+        good = [("space", (3, 1)), ("block", root), ("low", 0), ("high", 3)]
+        check_parameters(self, held_points, good, {"block": (R1,), "high": (4,)})
 
 
 if __name__ == "__main__":

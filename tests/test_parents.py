@@ -95,6 +95,9 @@ class ParentsTest(unittest.TestCase):
                     if all(-1 <= n <= 3 for n in moved[k]):
                         self.assertIs(is_block((3, 1), tuple(moved)), tuple(moved) in blocks)
         self.assertIsNone(ordered((3, 1), ((0, 0, 0),) * 4))
+        for size in (3, 5, 6, 7, 16, 32):
+            self.assertIs(is_block((2, 3), ((0, 0), (size, 0), (size, size))), False)
+            self.assertIs(is_block((3, 3), ((0, 0, 0), (size, 0, 0), (size, size, 0), (size, size, size))), False)
         for thing in WRONG_BLOCKS + (deep(R0, 27), R0 + R1):
             self.assertIs(is_block(PLANE, thing), False)
 

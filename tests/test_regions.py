@@ -88,7 +88,8 @@ class RegionsTest(unittest.TestCase):
     def test_random_regions(self):
         rolls = random.Random(61)
         cases = [((2, 2), oracle_blocks((2, 2), [(0, 0), (-1, 0)])), ((2, 3), oracle_blocks((2, 3), [(0, -1)])),
-                 ((3, 1), oracle_blocks((3, 1), [(0, 0, 0), (1, -1, 0)])), ((2, 0), oracle_blocks((2, 0), [(0, 0), (3, 1)]))]
+                 ((3, 1), oracle_blocks((3, 1), [(0, 0, 0), (1, -1, 0)])),
+                 ((3, 2), oracle_blocks((3, 2), [(0, 0, 0)], 3)), ((2, 0), oracle_blocks((2, 0), [(0, 0), (3, 1)]))]
         for k in range(120):
             space, blocks = cases[k % len(cases)]
             regions = ()
@@ -107,6 +108,15 @@ class RegionsTest(unittest.TestCase):
         for wall in walls:
             for block, told in blocks.items():
                 self.check(PLANE, (), wall, block, told)
+
+    def test_walls_in_space(self):
+        blocks = oracle_blocks(SPACE, [(0, 0, 0)], 2)
+        walls = [("upto", ((i, 1),), 2) for i in range(3)]
+        walls += [("upto", ((i, 1), (j, sign)), 4 if sign == 1 else 0) for i in range(3) for j in range(i) for sign in (1, -1)]
+        for wall in walls:
+            for region in (wall, ("or", wall, ("not", wall)), ("and", wall, ("not", wall))):
+                for block, told in blocks.items():
+                    self.check(SPACE, (), region, block, told)
 
     def test_along_through_and_in_corners(self):
         self.assertEqual(status_of(PLANE, (), ("upto", ((0, 1),), 4), R1), "in")

@@ -55,6 +55,8 @@ class SolidsTest(unittest.TestCase):
         self.assertEqual(solid_from(PLANE, ((0, 0), (1, 0)), (), ALL), PAIR)
         self.assertEqual(solid_from(CUBE[0], ((0, 0, 0),), (), ALL), CUBE)
         self.assertEqual(solid_from(PLANE, ((0, 0), (1, 0)), (), ("box", (0, 0), (4, 4))), SQUARE)
+        wall = ("upto", ((0, 1), (1, 1)), 4)
+        self.assertEqual(solid_from(PLANE, ((0, 0),), (), ("or", wall, ("not", wall))), SQUARE)
         self.assertEqual(solid_from(PLANE, ((0, 0),), (("a", ("upto", ((0, 1), (1, -1)), 0)),), ("name", "a")), (PLANE, (R0,)))
 
     def test_errors(self):

@@ -136,7 +136,7 @@ class PlanKindTest(unittest.TestCase):
     def test_numbers(self):
         self.check(True)
         for dims in (0, 1, 4, True, None, "2", (2,)):
-            self.check(False, dims=dims)
+            self.check(False, dims=dims, cubes=1, deep=0)
         for rounds in range(-1, 8):
             self.check(0 <= rounds <= 5, rounds=rounds, deep=0)
             for deep in (0, 2 * rounds, 2 * rounds + 1, 3 * rounds):

@@ -34,17 +34,15 @@ def half_point(one, other):
 
 def has_tips(body, size, along):
     """Whether the first corner is a first tip of this size, the directions to the last tip being along."""
-    if len(set(along)) != len(along):
-        return False
     return all([body[0][i] % (2 * size if i in along else size) == 0 for i in range(len(body[0]))])
 
 
 def has_sides(body, size, along):
-    """Whether the corners behind the last tip go on from the middle, each in a direction of its own."""
+    """Whether the corners behind the last tip go on from the middle, and each step is in a direction of its own."""
     many = len(along)
     middle = half_point(body[0], body[many])
     across = steps_from(middle, body[many + 1:], size // 2)
-    return len(across) == len(body) - 1 - many and len(set(along + across)) == len(body) - 1
+    return len(set(along + across)) == len(body) - 1
 
 
 def body_generation(space, body):

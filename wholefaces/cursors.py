@@ -32,10 +32,8 @@ class Cursor:
         raise InvalidText(self.line, self.pairs[self.taken][1])
 
     def step(self):
-        """Takes a word, which is returned; there has to be one."""
+        """Takes the word that stands here, which is returned."""
         word = self.now()
-        if word == "":
-            self.fail()
         self.taken = self.taken + 1
         return word
 
@@ -60,18 +58,11 @@ def is_numeral(word):
     return all([sign in FIGURES for sign in word])
 
 
-def take_number(cursor):
-    """Takes a NUMBER, which is returned."""
-    if not is_numeral(cursor.now()):
-        cursor.fail()
-    return int(cursor.step())
-
-
 def take_bounded(cursor, low, high):
     """Takes a NUMBER from low to high, which is returned."""
     if not is_numeral(cursor.now()) or not low <= int(cursor.now()) <= high:
         cursor.fail()
-    return take_number(cursor)
+    return int(cursor.step())
 
 
 def take_integer(cursor, below, divisor):

@@ -18,8 +18,8 @@ class Part:
         self.factors = ()
 
     def is_begun(self):
-        """Whether a TERM, or its minus, has come."""
-        return len(self.terms) > 0 or len(self.factors) > 0 or self.sign == -1
+        """Whether a FACT has come."""
+        return len(self.terms) > 0 or len(self.factors) > 0
 
     def begin_minus(self):
         """The minus that begins the EXPR has come."""
@@ -165,5 +165,6 @@ def expression_words(tree):
 
 def expression_line(expression):
     """The line of an expression of the plane or of space."""
-    demand(expression_fits(2, None, expression) or expression_fits(3, None, expression), "expression")
+    # What is one of the plane is one of space, too.
+    demand(expression_fits(3, None, expression), "expression")
     return expression_words(expression)

@@ -40,7 +40,7 @@ def parent_of(space, block):
 
 
 def ancestor_made(space, block, generation, wanted):
-    """The block of the wanted generation of which a block of this generation comes."""
+    """The block of the wanted generation of which a block of this generation comes; itself if wanted is above it."""
     for above in range(generation - wanted):
         block = parent_made(space, block, generation - above)[0]
     return block
@@ -58,7 +58,7 @@ def comes_of(space, block, other):
     generation = block_generation(space, block)
     wanted = found_generation(space, other)
     demand(wanted is not None, "other")
-    return wanted <= generation and ancestor_made(space, block, generation, wanted) == other
+    return ancestor_made(space, block, generation, wanted) == other
 
 
 def ordered(space, body):

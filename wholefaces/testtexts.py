@@ -1,7 +1,7 @@
 """Sums and tests read from texts and written as lines."""
 
 from wholefaces.checks import demand
-from wholefaces.cursors import Cursor, axis_word, is_numeral, take_axis, take_number, take_point
+from wholefaces.cursors import Cursor, axis_word, is_numeral, take_axis, take_point
 from wholefaces.kinds import is_path
 from wholefaces.logictexts import logic_line, take_logic
 from wholefaces.regiontexts import point_words
@@ -25,7 +25,7 @@ def take_part(cursor, dims, fields, sign):
     """Takes a PART, its minus being taken if the sign is -1."""
     if not is_numeral(cursor.now()):
         return (sign, take_quantity(cursor, dims, fields))
-    number = sign * take_number(cursor)
+    number = sign * int(cursor.step())
     if cursor.now() != "*":
         return (number, ("one",))
     cursor.step()
@@ -144,7 +144,8 @@ def sum_words(parts):
 
 def sum_line(parts):
     """The line of a sum of the plane or of space."""
-    demand(sum_fits(2, None, parts) or sum_fits(3, None, parts), "parts")
+    # What is one of the plane is one of space, too.
+    demand(sum_fits(3, None, parts), "parts")
     return sum_words(parts)
 
 

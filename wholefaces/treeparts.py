@@ -145,7 +145,7 @@ def sum_fits(dims, fields, thing):
 
 def comparison_fits(dims, fields, thing):
     """Whether the thing is a tuple of a mark and two sums."""
-    if len(thing) != 3 or not isinstance(thing[0], str) or thing[0] not in MARKS:
+    if len(thing) != 3 or thing[0] not in MARKS:
         return False
     return sum_fits(dims, fields, thing[1]) and sum_fits(dims, fields, thing[2])
 
