@@ -59,12 +59,10 @@ def body_generation(space, body):
     if size & (size - 1) != 0 or level < 0:
         return None
     along = steps_from(body[0], body[1:], size)
-    generation = dims * level + dims - len(along)
-    if generation > dims * rounds or not has_tips(body, size, along):
+    # With size 1 the steps from the middle have no length, so there is no block behind generation top.
+    if not has_tips(body, size, along) or not has_sides(body, size, along):
         return None
-    if not has_sides(body, size, along):
-        return None
-    return generation
+    return dims * level + dims - len(along)
 
 
 def found_generation(space, thing):
