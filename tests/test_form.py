@@ -17,6 +17,7 @@ STATEMENTS = (ast.Assign, ast.If, ast.While, ast.For, ast.Return, ast.Break, ast
               ast.FunctionDef, ast.ClassDef, ast.ImportFrom)
 BARRED = ("type typing typing_extensions enum Enum IntEnum StrEnum Flag IntFlag Generic Protocol ABC ABCMeta namedtuple "
           "NamedTuple TypedDict TYPE_CHECKING abstractmethod dataclass overload contextmanager").split()
+SPECIAL = ["__init__", "__eq__", "__len__", "__contains__", "__and__", "__or__"]
 NEVER = "register mro elements open input law version_info with_traceback add_note".split()
 NEVER_VARIABLES = ("attrgetter breakpoint builtins compile copyright credits delattr dir eval exec exit gc getattr globals "
                    "hasattr help id importlib license locals methodcaller os quit setattr super type vars sys").split()
@@ -50,6 +51,25 @@ def all_args(node):
         return []
     args = node.args
     return args.args + args.kwonlyargs + [arg for arg in (args.vararg, args.kwarg) if arg is not None]
+
+
+def classes_in(tree):
+    """The classes of a file."""
+    return [node for node in tree.body if isinstance(node, ast.ClassDef)]
+
+
+def methods_in(node):
+    """The methods of a class."""
+    return [method for method in node.body if isinstance(method, ast.FunctionDef)]
+
+
+def stored_in(node):
+    """The names of the attributes that are assigned in a class."""
+    return {inner.attr for inner in ast.walk(node) if isinstance(inner, ast.Attribute) and isinstance(inner.ctx, ast.Store)}
+
+
+ALL_CLASSES = [node for path in FILES for node in classes_in(tree_of(path))]
+OWN_METHODS = [method.name for node in ALL_CLASSES for method in methods_in(node) if not method.name.startswith("__")]
 
 
 class FormTest(unittest.TestCase):
@@ -110,7 +130,6 @@ class FormTest(unittest.TestCase):
 
     def test_nodes(self):
         for path, tree in self.each():
-            methods = [n.name for c in ast.walk(tree) if isinstance(c, ast.ClassDef) for n in c.body if isinstance(n, ast.FunctionDef)]
             parents = {child: node for node in ast.walk(tree) for child in ast.iter_child_nodes(node)}
             for node in ast.walk(tree):
                 if isinstance(node, ast.stmt):
@@ -128,19 +147,52 @@ class FormTest(unittest.TestCase):
                 if isinstance(node, ast.Constant):
                     self.assertNotIsInstance(node.value, (float, complex, bytes))
                 if isinstance(node, ast.Call):
-                    self.check_call(node, parents[node], methods)
+                    self.check_call(node, parents[node])
                 if isinstance(node, ast.Raise):
                     self.assertIsInstance(node.exc, ast.Call)
 
-    def check_call(self, node, parent, methods):
+    def check_call(self, node, parent):
         """Calls: builtins without keywords, methods of the list or own ones, sets on the spot."""
         if isinstance(node.func, ast.Attribute):
-            own = methods + ["now", "fail", "step", "take", "finish"]
-            self.assertIn(node.func.attr, METHODS + own)
+            self.assertIn(node.func.attr, METHODS + OWN_METHODS)
+            self.assertFalse(node.func.attr.startswith("_") and node.func.value.id != "self")
         if isinstance(node.func, ast.Name) and hasattr(builtins, node.func.id):
             self.assertEqual(node.keywords, [])
         if isinstance(node.func, ast.Name) and node.func.id == "set":
             self.assertTrue(isinstance(parent, ast.Call) and parent.func.id in ("sorted", "len"))
+
+    def test_classes(self):
+        stored = set()
+        for node in ALL_CLASSES:
+            stored |= stored_in(node)
+            names = [method.name for method in methods_in(node)]
+            self.assertEqual(len(names), len(set(names)))
+            for name in names:
+                self.assertTrue(not name.startswith("__") or name in SPECIAL, name)
+            for method in methods_in(node):
+                self.assertEqual(method.args.args[0].arg, "self")
+                self.check_special(method)
+        self.assertFalse(stored & set(OWN_METHODS))
+        self.assertFalse((stored | set(OWN_METHODS)) & set(METHODS + NEVER))
+        for path, tree in self.each():
+            for inner in ast.walk(tree):
+                if isinstance(inner, ast.Attribute) and isinstance(inner.ctx, ast.Load):
+                    self.assertIn(inner.attr, METHODS + OWN_METHODS + sorted(stored))
+                if isinstance(inner, ast.Attribute) and inner.attr.startswith("_"):
+                    self.assertIn(inner.value.id, ("self", "other"))
+
+    def check_special(self, method):
+        """Operators and the like change nothing, and end with a return of the right shape."""
+        if not method.name.startswith("__") or method.name == "__init__":
+            return
+        self.assertFalse(stored_in(method))
+        self.assertEqual([arg.arg for arg in method.args.args][1:], {"__len__": [], "__contains__": ["thing"]}.get(method.name, ["other"]))
+        last = method.body[-1]
+        self.assertIsInstance(last, ast.Return)
+        if method.name == "__len__":
+            self.assertEqual(last.value.func.id, "len")
+        if method.name == "__eq__":
+            self.assertRegex(ast.unparse(last), "^return isinstance[(]other, [A-Za-z]+[)]( and [(]?self[.][a-z_]+ == other[.][a-z_]+[)]?)+$")
 
     def test_names(self):
         for path, tree in self.each():
@@ -175,6 +227,7 @@ class FormTest(unittest.TestCase):
         for path, tree in self.each():
             for node in ast.walk(tree):
                 if isinstance(node, (ast.FunctionDef, ast.ClassDef)) and node.name != "__init__":
+                    self.assertRegex(node.name.strip("_"), "^[A-Za-z][A-Za-z0-9_]*$")
                     self.assertIsNotNone(ast.get_docstring(node), node.name)
 
 

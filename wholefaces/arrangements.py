@@ -1,4 +1,4 @@
-"""All orders of a few things, all choices out of a few rows, and walks along the directions."""
+"""All orders of a few things, all parts of them, all choices out of a few rows, and walks along the directions."""
 
 
 def all_orders(things):
@@ -10,6 +10,16 @@ def all_orders(things):
         rest = things[:k] + things[k + 1:]
         orders.extend([(things[k],) + order for order in all_orders(rest)])
     return orders
+
+
+def all_parts(things, many):
+    """All tuples of so many of the things, in their sequence: ascending, if the things ascend."""
+    if many == 0:
+        return [()]
+    parts = []
+    for k in range(len(things)):
+        parts.extend([(things[k],) + part for part in all_parts(things[k + 1:], many - 1)])
+    return parts
 
 
 def all_choices(rows):

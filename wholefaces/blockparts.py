@@ -126,3 +126,8 @@ def block_along(root, path):
 def size_in(space, generation):
     """The size of blocks of this generation."""
     return 1 << (space[1] - generation // space[0])
+
+
+def low_round(block, size):
+    """The low corner of the cube of this size, at least that of the block, in which a block lies."""
+    return tuple([min([corner[i] for corner in block]) // size * size for i in range(len(block) - 1)])

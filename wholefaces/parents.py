@@ -1,7 +1,7 @@
 """Blocks and those of which they come: roots, paths, parents, ancestors, own cubes."""
 
 from wholefaces.arrangements import all_orders
-from wholefaces.blockparts import block_along, body_generation, found_generation
+from wholefaces.blockparts import block_along, body_generation, found_generation, low_round
 from wholefaces.blockparts import parent_made, root_and_path, size_in
 from wholefaces.checks import demand
 from wholefaces.halving import block_generation
@@ -72,5 +72,4 @@ def ordered(space, body):
 
 def own_cube(space, block):
     """The low corner of the cube of the block's level in which it lies."""
-    size = size_in(space, block_generation(space, block))
-    return tuple([min([corner[i] for corner in block]) // size * size for i in range(space[0])])
+    return low_round(block, size_in(space, block_generation(space, block)))
