@@ -45,6 +45,53 @@ INTERFACE = {
                 "status_of(space, regions, region, block)"],
     "fieldvalues": ["value_of(fields, expression, point)", "field_at(frame, field, point)"],
     "solids": ["is_solid(thing)", "solid_of(space, *roots)", "solid_from(space, cubes, regions, region)"],
+    "members": ["holds_point(solid, point)", "ring_of(solid, point)", "needs_of(solid, point)", "name_of(solid, block)",
+                "block_named(solid, name)", "points_below(solid, generation)", "names_upto(solid, generation)"],
+    "borders": ["side_book(bodies)", "border_sides(bodies)", "pieces_of(bodies)", "euler_of(bodies)", "solid_measure(solid)"],
+    "frames": ["is_frame(thing)", "frame_of(plan)"],
+    "closing": ["is_closed(solid, thing)", "missing_at(solid, points)", "closure_of(solid, points)", "greatest_within(solid, points)"],
+    "meshclasses": ["Mesh(solid, lot)"],
+    "lattice": ["is_finer(mesh, other)", "meet_of(mesh, other)", "join_of(mesh, other)"],
+    "counts": ["many_of(solid, lot)", "by_generation(mesh)", "weight_of(mesh)"],
+    "deeds": ["halve_step(mesh, point)", "join_step(mesh, point)", "deeds_between(mesh, other)", "done_deeds(mesh, deeds)"],
+    "blocksums": ["sum_over(mesh, table)", "gain_of(solid, table, point)", "sum_by_points(mesh, table)"],
+    "cuttings": ["is_cutting(solid, thing)", "leaves_of(solid, cutting)", "cutting_of(mesh)", "middles_of(solid, cutting)",
+                 "loose_corners(solid, cutting)", "half_corners(solid, cutting)"],
+    "coarse": ["over_of(solid, cutting)", "under_of(solid, cutting)"],
+    "plains": ["plain_cubes(solid, cutting)", "starred_of(solid, lot)", "sitting_by(solid, cutting, point)", "level_costs(solid, cutting)"],
+    "tales": ["is_tale(solid, thing)", "told_lot(solid, tale)", "births_of(solid, tale)", "tale_chain(solid, tale, point)",
+              "lets_tale(solid, tale, point, thing)"],
+    "quantities": ["quantity_of(frame, quantity, block)", "sum_of(frame, parts, block)", "error_of(frame, field, block)",
+                   "fine_points(frame, block)"],
+    "goodness": ["is_good(frame, test, block)", "all_of(tests)", "has_error(test)"],
+    "mustclasses": ["Musts(frame, test)"],
+    "reaching": ["rounds_from(musts, points)", "reached_from(musts, points)", "chain_from(musts, points, thing)",
+                 "forced_rounds(musts)", "forced_of(musts)", "forced_chain(musts, thing)"],
+    "extremes": ["least_of(musts)", "greatest_of(musts)", "first_bad(musts, lot)", "is_passing(musts, thing)"],
+    "answers": ["standing_of(musts, point)", "either(musts, points, others)", "least_with(musts, points, others)",
+                "greatest_with(musts, points, others)", "parted_by(musts, other)"],
+    "depths": ["least_deep(solid, regions, fields, test)"],
+    "clumps": ["clumps_of(musts)", "steps_between(musts, lot, other)"],
+    "papers": ["paper_of(musts)", "lets_paper(frame, test, thing)", "refusal_of(musts)", "lets_refusal(frame, test, thing)"],
+    "settling": ["kept_reasons(musts, reasons)", "settled_reasons(musts, reasons)"],
+    "workclasses": ["Work(musts)"],
+    "wishclasses": ["Wishes(frame)"],
+    "blame": ["blame_of(frame, tests, thing)"],
+    "handclasses": ["Hands(frame, test, owners)"],
+}
+
+# The methods of the classes, each defined in the class itself.
+METHODS = {
+    "meshclasses.Mesh": ["told(self)", "blocks(self)", "block_names(self)", "corners(self)", "has(self, point)", "__contains__(self, thing)",
+                         "__len__(self)", "__eq__(self, other)", "__and__(self, other)", "__or__(self, other)"],
+    "mustclasses.Musts": ["told(self)", "bad(self, block)", "all_points(self)", "sources(self)", "of(self, point)", "why_source(self, thing)",
+                          "why(self, point, thing)", "__eq__(self, other)"],
+    "workclasses.Work": ["waiting(self)", "do(self, place)", "jobs(self)", "lot(self)", "done(self)", "refuses(self)"],
+    "wishclasses.Wishes": ["wish(self, name, test)", "change(self, name, test)", "drop(self, name)", "names(self)", "test_of(self, name)",
+                           "lot(self)", "mesh(self)", "reasons(self)", "last(self)", "why(self, point)"],
+    "handclasses.Hands": ["known(self, hand)", "waiting(self, hand)", "learn(self, hand, place)", "letters(self)", "bring(self, place)",
+                          "lose(self, place)", "double(self, place)", "resend(self, hand)", "fall(self, hand, many)", "refuses(self, hand)",
+                          "calm(self)"],
 }
 
 
@@ -58,6 +105,15 @@ class InterfaceTest(unittest.TestCase):
                     function = getattr(module, line.partition("(")[0])
                     self.assertEqual(function.__name__ + str(inspect.signature(function)), line)
                     self.assertEqual(function.__module__, f"wholefaces.{name}")
+
+    def test_methods(self):
+        for place, told in METHODS.items():
+            name, _, known = place.partition(".")
+            found = vars(getattr(importlib.import_module(f"wholefaces.{name}"), known))
+            for line in told:
+                with self.subTest(place=place, line=line):
+                    method = found[line.partition("(")[0]]
+                    self.assertEqual(method.__name__ + str(inspect.signature(method)), line)
 
 
 if __name__ == "__main__":
