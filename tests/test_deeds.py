@@ -113,6 +113,8 @@ class DeedsTest(unittest.TestCase):
         mesh = [("mesh", Mesh(SQUARE, LOT))]
         check_parameters(self, halve_step, mesh + [("point", (0, 2))], {"point": OFF_POINTS + LOT})
         check_parameters(self, join_step, mesh + [("point", (2, 0))], {"point": OFF_POINTS + ((0, 2), (1, 1))})
+        fine = Mesh(SQUARE, ((2, 2), (0, 2), (2, 0), (1, 1)))
+        check_parameters(self, join_step, [("mesh", fine), ("point", (1, 1))], {"point": ((True, 1), (1, True), [1, 1], (1, 1, 1))})
         check_parameters(self, deeds_between, mesh + [("other", Mesh(SQUARE, ()))], {"other": OTHER_MESHES + (Mesh(PAIR, ()),)})
         check_parameters(self, done_deeds, mesh + [("deeds", (("halve", (0, 2)),))], {"deeds": WRONG_DEEDS})
         # A deed that is none is told ahead of one that is refused.

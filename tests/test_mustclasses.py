@@ -123,6 +123,11 @@ class MustsTest(unittest.TestCase):
         for thing in ("bar ", ["bar"], ("bar",), "BAR"):
             with self.assertRaises(NotUsable):
                 refusing.why((2, 0), thing)
+        small = Musts((((2, 1), (((0, 0), (0, 2), (2, 2)), ((0, 0), (2, 0), (2, 2)))), 2, (), ()), ("bad", ((0, ""), (0, "0"))))
+        check_parameters(self, small.why_source, [("thing", (1, 1))], {"thing": ((True, 1), (1, True))})
+        wrong = {"point": ((0, True), (False, 1)), "thing": ((True, 1), (1, True))}
+        check_parameters(self, small.why, [("point", (0, 1)), ("thing", (1, 1))], wrong)
+        check_parameters(self, small.of, [("point", (0, 1))], wrong)
         nought = Musts((SQUARE, 0, (), ()), TEST)
         for call in (lambda: nought.of((2, 2)), lambda: nought.why((2, 2), BAR), lambda: nought.why_source((2, 2)), lambda: nought.bad(LOW)):
             self.assertRaises(NotUsable, call)

@@ -195,6 +195,8 @@ class PapersTest(unittest.TestCase):
         for why in whys + tuple(("bad", name) for name in OFF_NAMES):
             self.refuse(lets_paper, FLAT, TEST, (one, (two[0], why, 0)), "why", 1)
         self.refuse(lets_paper, FLAT, TEST, (one, (two[0], ("bad", (1, "0")), -1)), "why", 1)
+        # The name of a bad block that is no root, though with this middle.
+        self.refuse(lets_paper, FLAT, TEST, ((two[0], ("root", (1, "0")), -1),), "why", 0)
         self.refuse(lets_paper, FLAT, TEST, (one,), "bad", -1)
         self.refuse(lets_paper, FLAT, TEST, (), "bad", -1)
 
@@ -227,6 +229,10 @@ class PapersTest(unittest.TestCase):
         for why in (None, ("need",), ("bad", (1, "0")), ("bad", (1, "01")), ("bad", (True, "00")), ("root", (1, ""))):
             self.refuse(lets_refusal, FLAT, REFUSING, (one, two, (BAR, why)), "why", 2)
         self.refuse(lets_refusal, FLAT, REFUSING, (one, end), "why", 1)
+        self.refuse(lets_refusal, FLAT, REFUSING, ((BAR, ("root", (1, "00"))),), "why", 0)
+        # A root is no half.
+        self.refuse(lets_refusal, FLAT, REFUSING, (one, (one[0], ("bad", (1, ""))), two, end), "why", 1)
+        self.assertEqual(lets_refusal(FLAT, REFUSING, (one, two, (one[0], ("need",)), two, end)), 5)
 
     def test_deep_nought(self):
         frame = (SQUARE, 0, (), ())

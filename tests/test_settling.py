@@ -3,7 +3,7 @@
 import unittest
 
 from musttools import BAR, FLAT, FRAME, HIGH_POINTS, TEST, Known, draw_known, draw_names
-from tools import SQUARE, check_parameters
+from tools import PAIR, SQUARE, check_parameters
 from wholefaces.mustclasses import Musts
 from wholefaces.settling import kept_reasons, settled_reasons
 from worlds import OFF_POINTS, worlds
@@ -87,6 +87,15 @@ class SettlingTest(unittest.TestCase):
             self.assertEqual(settled_reasons(musts, (good[0], wrong, good[2])), good)
         self.assertEqual(kept_reasons(musts, good[1:]), ())
         self.assertEqual(kept_reasons(musts, (((2, 2), (0, 2)),) + good[1:]), ())
+
+    def test_a_source_may_keep_another_reason(self):
+        musts = Musts((PAIR, 2, (), ()), ("bad", ((1, ""), (1, "1"), (2, ""))))
+        reasons = (((2, 2), None), ((6, 2), (4, 2)), ((4, 2), (2, 2)))
+        self.assertEqual(musts.sources(), ((2, 2), (6, 2)))
+        self.assertEqual((kept_reasons(musts, reasons), settled_reasons(musts, reasons)), (reasons, reasons))
+        self.assertEqual(settled_reasons(musts, reasons[:1]), reasons[:1] + (((6, 2), None),) + reasons[2:])
+        # A point that is held by a point that was there longer.
+        self.assertEqual(settled_reasons(musts, (((6, 2), None),)), (((2, 2), None), ((6, 2), None), ((4, 2), (2, 2))))
 
     def test_drawn_reasons(self):
         rolls, made = worlds(621, 80)

@@ -37,7 +37,8 @@ def linked_from(place, beside):
     found = {place: True}
     left = [place]
     while len(left) > 0:
-        for other in beside[left.pop()]:
+        now = left.pop()
+        for other in beside[now]:
             if other not in found:
                 found[other] = True
                 left.append(other)

@@ -26,7 +26,7 @@ class Chart:
 
 def is_bar(thing):
     """Whether any thing is the bar."""
-    return isinstance(thing, str) and thing == BAR
+    return thing == BAR
 
 
 def halves_names(name):

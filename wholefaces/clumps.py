@@ -10,7 +10,8 @@ def reached_within(edges, left, start):
     found = {start: True}
     row = [start]
     while len(row) > 0:
-        for other in edges.get(row.pop(), ()):
+        point = row.pop()
+        for other in edges.get(point, ()):
             if other in left and other not in found:
                 found[other] = True
                 row.append(other)
@@ -77,10 +78,11 @@ def steps_between(musts, lot, other):
     there = {point: True for point in lot}
     steps = [lot]
     while len(going) > 0:
-        for point in going.pop(first_to_go(table, going)):
-            there.pop(point)
+        clump = going.pop(first_to_go(table, going))
+        there = {point: True for point in there if point not in clump}
         steps.append(tuple([point for point in table if point in there]))
     while len(coming) > 0:
-        there.update({point: True for point in coming.pop(first_to_come(table, there, coming))})
+        clump = coming.pop(first_to_come(table, there, coming))
+        there.update({point: True for point in clump})
         steps.append(tuple([point for point in table if point in there]))
     return tuple(steps)

@@ -1,19 +1,11 @@
 """Single steps from mesh to mesh: one point more, or one less."""
 
 from wholefaces.checks import demand
-from wholefaces.errors import NoDeed, NotClosed, StillNeeded
+from wholefaces.errors import NoDeed, StillNeeded
 from wholefaces.kinds import is_pair
 from wholefaces.members import is_member, needs_in
 from wholefaces.meshclasses import Mesh, demand_other
 from wholefaces.orders import in_order
-
-
-def lacking(there, needs):
-    """The first of the needs that is not there, or None."""
-    for need in needs:
-        if need not in there:
-            return need
-    return None
 
 
 def needing(there, needs, point):
@@ -26,16 +18,14 @@ def needing(there, needs, point):
 
 def is_deed(solid, thing):
     """Whether any thing is a deed."""
-    if not is_pair(thing) or not isinstance(thing[0], str):
-        return False
-    return thing[0] in ("halve", "join") and is_member(solid, thing[1])
+    return is_pair(thing) and thing[0] in ("halve", "join") and is_member(solid, thing[1])
 
 
 def can_do(there, needs, deed):
     """Whether the step of this deed is not refused."""
     word, point = deed
     if word == "halve":
-        return point not in there and lacking(there, needs[point]) is None
+        return point not in there and all([need in there for need in needs[point]])
     return point in there and needing(there, needs, point) is None
 
 
@@ -43,9 +33,7 @@ def halve_step(mesh, point):
     """The mesh with one point more."""
     solid, lot = mesh.told()
     demand(is_member(solid, point) and point not in lot, "point")
-    need = lacking(lot, needs_in(solid, point))
-    if need is not None:
-        raise NotClosed(point, need)
+    # The lot is closed, so what the new one lacks is a need of this point.
     return Mesh(solid, in_order(solid[0], lot + (point,)))
 
 

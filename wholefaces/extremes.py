@@ -5,7 +5,7 @@ from wholefaces.checks import demand
 from wholefaces.closing import is_closed_lot
 from wholefaces.errors import Refused
 from wholefaces.nodes import leaves_by_points
-from wholefaces.reaching import chain_made, reached_made, table_of
+from wholefaces.reaching import chain_made, found_from, reached_made, table_of
 
 
 def demand_passing(table, sources):
@@ -26,15 +26,7 @@ def users_of(table):
 
 def leading_to(table, goals):
     """The goals, and all points from which one of them is reached: a dict of True."""
-    users = users_of(table)
-    found = {}
-    left = list(goals)
-    while len(left) > 0:
-        thing = left.pop()
-        if thing not in found:
-            found[thing] = True
-            left.extend(users.get(thing, []))
-    return found
+    return found_from(users_of(table), goals)
 
 
 def greatest_without(table, things):

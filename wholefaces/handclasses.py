@@ -109,8 +109,7 @@ class Hands:
 
     def resend(self, hand):
         """The hand tells all that it knows, in this sequence."""
-        self._demand_hand(hand)
-        for point in self._known[hand]:
+        for point in self.known(hand):
             self._tell(hand, point)
 
     def fall(self, hand, many):

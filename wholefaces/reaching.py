@@ -41,15 +41,15 @@ def befores_made(table, first):
     return {thing: before for row in rounds_made(table, first) for thing, before in row}
 
 
-def found_from(table, first):
-    """The things reached, in any sequence: a dict of True."""
+def found_from(edges, first):
+    """All things reached from the first ones along the edges, in any sequence: a dict of True."""
     found = {}
     left = list(first)
     while len(left) > 0:
         thing = left.pop()
         if thing not in found:
             found[thing] = True
-            left.extend(table.get(thing, ()))
+            left.extend(edges.get(thing, ()))
     return found
 
 

@@ -1,6 +1,6 @@
 """Reasons: which of them are kept when the musts change, and how new ones are settled on the kept ones."""
 
-from wholefaces.charts import BAR, ordered_things
+from wholefaces.charts import ordered_things
 from wholefaces.checks import demand
 from wholefaces.kinds import is_pair
 from wholefaces.reaching import round_behind, table_of
@@ -34,7 +34,7 @@ def kept_made(table, sources, reasons):
 
 
 def settled_made(table, sources, kept):
-    """The settled reasons made of the kept ones: a dict from point to before."""
+    """The settled reasons made of the kept ones: a dict from point to before, with the bar, too, if it is forced."""
     reasons = {point: before for point, before in kept.items()}
     waiting = round_behind(table, reasons, ordered_things(table, list(reasons)))
     waiting.update({source: None for source in sources if source not in reasons})
@@ -42,7 +42,7 @@ def settled_made(table, sources, kept):
         reasons.update(waiting)
         # The musts of older points have their reasons by now: only the newest ones can make others wait.
         waiting = round_behind(table, reasons, ordered_things(table, list(waiting)))
-    return {point: before for point, before in reasons.items() if point != BAR}
+    return reasons
 
 
 def reasons_told(table, reasons):

@@ -38,7 +38,7 @@ class Wishes:
     def _place(self, name):
         """The place of the wish with this name, which may be any value."""
         names = self.names()
-        if not isinstance(name, str) or name not in names:
+        if name not in names:
             raise NotStanding(name)
         return names.index(name)
 
