@@ -28,7 +28,7 @@ HIGH_POINTS = ((1, 1), (3, 1), (1, 2))
 def draw_frame(rolls, world, most_blocks=200, named=True):
     """A frame of the world with a drawn deep."""
     deeps = [g for g in range(world.top + 1) if sum(1 for name in world.names if len(name[1]) <= g) <= most_blocks]
-    deep = rolls.choice(deeps + deeps[-2:])
+    deep = rolls.choice(deeps[-3:] if rolls.randrange(4) else deeps)
     regions, fields = (), ()
     if named:
         for name in ("a", "b1")[:rolls.randrange(3)]:
@@ -45,9 +45,16 @@ def names_within(world, deep):
 
 
 def draw_names(rolls, world, deep):
-    """Names of blocks, roots more often than others, and now and then such of no block."""
-    names = [name for name in names_within(world, deep) if rolls.randrange(2 + len(name[1])) == 0]
+    """Names of blocks: any ones, all that hold a point, or those on the way to some; now and then such of no block."""
+    kind, known = rolls.randrange(3), names_within(world, deep)
+    names = [name for name in known if rolls.randrange(2 + len(name[1])) == 0]
     names = rolls.sample(names, min(len(names), rolls.randrange(1, 40)))
+    if kind == 1:
+        point, most = rolls.choice(world.blocks[rolls.choice(known)]), rolls.randrange(deep + 1)
+        names = [name for name in known if len(name[1]) <= most and world.block_holds(name, point)]
+    elif kind == 2:
+        ends = [rolls.choice(known) for _ in range(rolls.randrange(1, 4))]
+        names = sorted({(number, path[:k]) for number, path in ends for k in range(len(path))})
     if rolls.randrange(4) == 0:
         names += [(99, ""), (0, "0" * (world.top + 1)), (0, "01" * 9)]
     return tuple(names)

@@ -80,6 +80,23 @@ class MustsTest(unittest.TestCase):
                 self.check(Musts(frame, ("bad", ())), Known(world, deep, ()))
                 self.check(Musts(frame, ("not", ("bad", ()))), Known(world, deep, world.names))
 
+    def test_consequences(self):
+        """[62]: needs come earlier, middles of bad halves next; and these are musts of one another."""
+        rolls, made = worlds(554, 40)
+        for world in made:
+            frame, test, known = draw_known(rolls, world)
+            musts = Musts(frame, test)
+            for point in musts.all_points():
+                for thing in musts.of(point):
+                    why = musts.why(point, thing)
+                    if why == ("need",):
+                        self.assertLess(world.key(thing)[0], world.key(point)[0])
+                    elif thing != BAR:
+                        self.assertEqual(world.key(thing)[0], world.key(point)[0] + 1)
+                        self.assertIn(point, musts.of(thing))
+                    else:
+                        self.assertEqual(world.key(point)[0] + 1, known.deep)
+
     def test_deep_nought(self):
         frame = (PAIR, 0, (), ())
         musts = Musts(frame, ("bad", ((3, ""), (2, ""), (0, "0"))))

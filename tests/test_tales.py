@@ -67,6 +67,25 @@ class TalesTest(unittest.TestCase):
                     self.assertEqual(tale_chain(world.solid, tale, point), chain)
                     self.check_papers(rolls, world, tale, point, chain)
 
+    def test_long_chains(self):
+        rolls, made = worlds(513, 40, 5, 3, 2)
+        longest = 0
+        for world in made:
+            if len(world.roots) > 2:
+                continue
+            tale = world.draw_deep_tale(rolls)
+            lot, births = oracle_births(world, tale)
+            self.assertEqual(births_of(world.solid, tale), tuple((p, births[p]) for p in lot))
+            for point in lot:
+                if is_starred(point):
+                    chain = oracle_chain(world, tale, births, point)
+                    self.assertEqual(tale_chain(world.solid, tale, point), chain)
+                    self.assertEqual(lets_tale(world.solid, tale, point, chain), len(chain))
+                    if len(chain) > 2:
+                        self.check_papers(rolls, world, tale, point, chain)
+                    longest = max(longest, len(chain))
+        self.assertGreater(longest, 2)
+
     def check_papers(self, rolls, world, tale, point, chain):
         """The right chain is accepted, all others are not."""
         self.assertEqual(lets_tale(world.solid, tale, point, chain), len(chain))

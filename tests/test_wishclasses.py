@@ -94,6 +94,24 @@ class WishesTest(unittest.TestCase):
             bad_of = lambda test: [name for name in names_within(world, frame[1]) if not good_oracle(world, frame, test, name)]
             self.check_history(rolls, world, frame, lambda: draw_test(rolls, world, frame, 1), bad_of)
 
+    def test_one_wish_more_takes_no_point_away(self):
+        rolls, made = worlds(643, 30)
+        for world in made:
+            frame = draw_frame(rolls, world, 160, named=False)
+            wishes = Wishes(frame)
+            for name in "abcd":
+                lot, names = set(wishes.lot()), wishes.names()
+                try:
+                    wishes.wish(name, ("bad", draw_names(rolls, world, frame[1])))
+                except Refused:
+                    self.assertEqual((set(wishes.lot()), wishes.names()), (lot, names))
+                self.assertLessEqual(lot, set(wishes.lot()))
+            for name in wishes.names():
+                lot = set(wishes.lot())
+                wishes.drop(name)
+                self.assertLessEqual(set(wishes.lot()), lot)
+            self.assertEqual((wishes.lot(), wishes.reasons(), wishes.names()), ((), (), ()))
+
     def test_a_changed_wish_keeps_its_place(self):
         wishes = Wishes(FLAT)
         for name in ("c", "a", "b"):

@@ -125,6 +125,16 @@ class World:
             lot = self.closure(lot + (self.middle[tale[-1]],))
         return tuple(tale)
 
+    def draw_deep_tale(self, rolls):
+        """A tale that goes on from block to block towards one place, as far as it can."""
+        tale, births = [], set()
+        number, path = rolls.randrange(len(self.roots)), "".join(rolls.choice("01") for _ in range(self.top))
+        for k in range(self.top):
+            if self.middle[(number, path[:k])] not in births:
+                tale.append((number, path[:k]))
+                births |= set(self.closure([self.middle[tale[-1]]]))
+        return tuple(tale)
+
     def block_holds(self, name, point):
         """Whether a block holds a point."""
         block = self.blocks[name]
