@@ -67,8 +67,9 @@ class Musts:
     def why_source(self, thing):
         """The first why, by names, that shows a source."""
         demand(self.is_thing(thing) and thing in self._sources, "thing")
-        names = [name for name, _ in self._chart.nodes if name in self._bad_names and name[1] == ""]
-        return ("root", [name for name in names if self._chart.middles.get(name, BAR) == thing][0])
+        roots = [name for name, _ in self._chart.nodes if name[1] == "" and name in self._bad_names]
+        names = [name for name in roots if self._chart.middles.get(name, BAR) == thing]
+        return ("root", names[0])
 
     def why(self, point, thing):
         """The first why, by the ring's sequence, that shows a must of the point."""
