@@ -14,7 +14,7 @@ METHODS = ("append clear copy count endswith extend find get index insert isalnu
            "join keys ljust lower lstrip partition pop remove replace reverse rfind rjust rpartition rsplit rstrip setdefault "
            "split splitlines startswith strip update upper values zfill bit_length").split()
 STATEMENTS = (ast.Assign, ast.If, ast.While, ast.For, ast.Return, ast.Break, ast.Continue, ast.Pass, ast.Raise, ast.Expr,
-              ast.FunctionDef, ast.ClassDef, ast.ImportFrom)
+              ast.FunctionDef, ast.ClassDef, ast.ImportFrom, ast.Try)
 BARRED = ("type typing typing_extensions enum Enum IntEnum StrEnum Flag IntFlag Generic Protocol ABC ABCMeta namedtuple "
           "NamedTuple TypedDict TYPE_CHECKING abstractmethod dataclass overload contextmanager").split()
 SPECIAL = ["__init__", "__eq__", "__len__", "__contains__", "__and__", "__or__"]
@@ -42,6 +42,7 @@ def imported_in(tree):
 def bound_in(node):
     """The names of parameters and local variables in a function."""
     names = [arg.arg for inner in ast.walk(node) for arg in (all_args(inner) if hasattr(inner, "args") else [])]
+    names += [inner.name for inner in ast.walk(node) if isinstance(inner, ast.ExceptHandler) and inner.name]
     return names + [inner.id for inner in ast.walk(node) if isinstance(inner, ast.Name) and isinstance(inner.ctx, ast.Store)]
 
 
@@ -69,6 +70,7 @@ def stored_in(node):
 
 
 ALL_CLASSES = [node for path in FILES for node in classes_in(tree_of(path))]
+OWN_ERRORS = [node.name for node in classes_in(tree_of(PACKAGE / "errors.py"))]
 OWN_METHODS = [method.name for node in ALL_CLASSES for method in methods_in(node) if not method.name.startswith("__")]
 
 
@@ -150,6 +152,9 @@ class FormTest(unittest.TestCase):
                     self.check_call(node, parents[node])
                 if isinstance(node, ast.Raise):
                     self.assertIsInstance(node.exc, ast.Call)
+                if isinstance(node, ast.Try):
+                    self.assertEqual(node.orelse + node.finalbody, [])
+                    self.assertTrue(all(handler.type.id in OWN_ERRORS for handler in node.handlers))
 
     def check_call(self, node, parent):
         """Calls: builtins without keywords, methods of the list or own ones, sets on the spot."""

@@ -15,3 +15,11 @@ def lowest_terms(numbers):
     """The row over its greatest common divisor, as a tuple; not all are 0."""
     divisor = common_divisor(numbers)
     return tuple([number // divisor for number in numbers])
+
+
+def common_multiple(numbers):
+    """The least common multiple of a row of integers above 0; 1 if there is none."""
+    found = 1
+    for number in numbers:
+        found = found * number // gcd(found, number)
+    return found

@@ -2,7 +2,7 @@
 
 from wholefaces.checks import demand
 from wholefaces.kinds import is_point, is_row
-from wholefaces.treeparts import expression_fits, names_in
+from wholefaces.treeparts import expression_fits, fields_fit, names_in
 from wholefaces.wordnames import is_name_of
 
 
@@ -42,6 +42,17 @@ def field_values(fields, point):
     return values
 
 
+def field_value(fields, field, point):
+    """The value of one of the fields at a point."""
+    return field_values(fields, point)[field]
+
+
+def demand_field(dims, fields, field):
+    """Raises NotUsable unless these are fields, with axes of so many dims, and the name of one of them."""
+    demand(fields_fit(dims, fields), "fields")
+    demand(is_name_of(names_in(fields), field), "field")
+
+
 def has_third_axis(expression):
     """Whether the axis 2 stands in an expression."""
     word, part = expression[0], expression[1]
@@ -69,4 +80,4 @@ def field_at(frame, field, point):
     space, fields = frame[0][0], frame[3]
     demand(is_name_of(names_in(fields), field), "field")
     demand(is_point(space, point), "point")
-    return field_values(fields, point)[field]
+    return field_value(fields, field, point)

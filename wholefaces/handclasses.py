@@ -27,15 +27,25 @@ class Hands:
         demand(is_frame(frame), "frame")
         demand(is_test_of(frame, test), "test")
         demand(are_owners(frame[0], owners), "owners")
+        self._frame = frame
+        self._test = test
         self._chart = Chart(frame[0], frame[1])
         self._bad_names = bad_names(frame, test, self._chart)
         self._owners = owners
         self._known = [{} for _ in range(max(owners) + 1)]
         self._letters = []
 
+    def told(self):
+        """The triple (frame, test, owners)."""
+        return self._frame, self._test, self._owners
+
+    def is_hand(self, thing):
+        """Whether any thing is one of the hands."""
+        return is_number(thing) and thing < len(self._known)
+
     def _demand_hand(self, hand):
         """Raises NotUsable unless there is such a hand."""
-        demand(is_number(hand) and hand < len(self._known), "hand")
+        demand(self.is_hand(hand), "hand")
 
     def _own_ring(self, hand, point):
         """The pairs (name, block) of a hand's own blocks in the ring of a point."""

@@ -4,7 +4,7 @@ from wholefaces.checks import demand
 from wholefaces.divisors import common_divisor
 from wholefaces.errors import InvalidText
 from wholefaces.kinds import is_place, is_point, is_quotient
-from wholefaces.quotients import quotient_of
+from wholefaces.quotients import quotient_of, scaled
 
 FIGURES = "0123456789"
 
@@ -117,8 +117,5 @@ def read_point(space, text):
 
 def read_place(space, text):
     """The place whose line is the text."""
-    quotients = read_row(space, text, quotient_from)
-    shared = 1
-    for quotient in quotients:
-        shared = shared * quotient[1] // common_divisor((shared, quotient[1]))
-    return tuple([top * shared // bottom for top, bottom in quotients]) + (shared,)
+    numbers, shared = scaled(read_row(space, text, quotient_from))
+    return tuple(numbers) + (shared,)

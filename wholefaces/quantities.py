@@ -3,7 +3,7 @@
 from wholefaces.blockparts import block_middle, halves_made, size_in, tip_place
 from wholefaces.checks import demand
 from wholefaces.families import both_halves
-from wholefaces.fieldvalues import field_values
+from wholefaces.fieldvalues import field_value
 from wholefaces.frames import demand_block
 from wholefaces.orders import in_order
 from wholefaces.quotients import plus, quotient_of, times
@@ -13,7 +13,7 @@ from wholefaces.wordnames import is_name_of
 
 def field_heights(frame, field, points):
     """The values of a field at the points."""
-    return [field_values(frame[3], point)[field] for point in points]
+    return [field_value(frame[3], field, point) for point in points]
 
 
 def halves_with_heights(block, heights, height, generation):

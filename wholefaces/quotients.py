@@ -1,7 +1,7 @@
 """Quotients: pairs (top, bottom) in lowest terms, and how one reckons with them."""
 
 from wholefaces.checks import demand
-from wholefaces.divisors import lowest_terms
+from wholefaces.divisors import common_multiple, lowest_terms
 from wholefaces.kinds import is_integer, is_quotient
 
 
@@ -49,3 +49,23 @@ def less(one, other):
     """Whether one < other."""
     demand_both(one, other)
     return one[0] * other[1] < other[0] * one[1]
+
+
+def added(quotients):
+    """The sum of a row of quotients."""
+    total = (0, 1)
+    for quotient in quotients:
+        total = plus(total, quotient)
+    return total
+
+
+def scaled(quotients):
+    """The integers that the quotients are times one and the same bottom, and this bottom."""
+    bottom = common_multiple([quotient[1] for quotient in quotients])
+    return [top * (bottom // own) for top, own in quotients], bottom
+
+
+def rising(quotients):
+    """The quotients, each once, the lesser ones first."""
+    tops, bottom = scaled(quotients)
+    return [quotient_of(top, bottom) for top in sorted(set(tops))]
