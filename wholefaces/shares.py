@@ -12,7 +12,7 @@ NOTHING = (0, 1)
 
 
 def share_made(gaps):
-    """The part of a body's measure where the value is at least c, the gaps being how far it is above c at the corners."""
+    """The part of a body's measure where a value is at least c; the gaps tell how far it is above c at the corners."""
     if min(gaps) >= 0:
         return WHOLE
     if max(gaps) <= 0:

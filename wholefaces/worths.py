@@ -15,7 +15,7 @@ from wholefaces.wordnames import is_name_of
 
 
 def are_pairs_in_order(space, thing, are_points):
-    """Whether any thing is a tuple of pairs (point, quotient), in order; are_points tells of any tuple whether it fits."""
+    """Whether any thing is pairs (point, quotient), in order; are_points tells of a tuple whether it is such points."""
     if not isinstance(thing, tuple) or not all([is_pair(pair) and is_quotient(pair[1]) for pair in thing]):
         return False
     points = tuple([pair[0] for pair in thing])
@@ -51,7 +51,7 @@ def value_made(solid, worths, price, lot):
 
 
 def block_worths(frame, parts):
-    """For each point of a generation below deep what the sum tells for the halves of its ring more than for the ring."""
+    """For each point of a generation below deep what the sum tells for its ring's halves, less what for its ring."""
     demand(sum_fits(frame[0][0][0], names_in(frame[3]), parts), "parts")
     chart = Chart(frame[0], frame[1])
     told = {name: sum_made(frame, parts, block, len(name[1])) for name, block in chart.nodes}
