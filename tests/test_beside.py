@@ -3,7 +3,7 @@
 import unittest
 
 from meshtools import M, draw_mesh, sides_of
-from tools import PAIR, PLANE, WRONG_NUMBERS, WRONG_POINTS, check_parameters
+from tools import PAIR, PLANE, SQUARE, WRONG_NUMBERS, WRONG_POINTS, check_parameters
 from wholefaces.beside import beside_of, border_of, round_point
 from wholefaces.meshclasses import Mesh
 from wholefaces.roots import cube_roots
@@ -56,6 +56,8 @@ class BesideTest(unittest.TestCase):
         # (True, "00") is the name of no block, although it equals one that is.
         points = WRONG_POINTS + ((0, 2), (1, 1), (8, 0), (4, True))
         check_parameters(self, round_point, [("mesh", M), ("point", (2, 0))], {"point": points + (((2, 0),), (8, 8))})
+        finer = Mesh(SQUARE, ((2, 2), (0, 2), (2, 0), (1, 1)))
+        check_parameters(self, round_point, [("mesh", finer), ("point", (1, 1))], {"point": ((True, 1), (1, True), (True, True), [1, 1])})
         self.assertEqual(border_of(mesh=M), border_of(M))
         self.assertEqual(len(border_of(Mesh(PAIR, ()))), 6)
 

@@ -155,6 +155,14 @@ class BestTest(unittest.TestCase):
         self.refused((((2, 2), (2, 0)), (((0, 2), (2, 2), (4, 1)),)), "low", 2, MUSTS, worths, (1, 1))
         self.refused((((2, 2),), (((0, 2), (2, 2), (4, 1)),)), "into", 0, MUSTS, worths, (1, 1))
 
+    def test_flows_ascend(self):
+        # (2, 2), which stands first in order, gives, and so does (0, 2), which is first ascending.
+        musts = Musts(FLAT, ("bad", ((1, "0"),)))
+        worths = (((2, 2), (5, 1)), ((0, 2), (2, 1)), ((2, 0), (-8, 1)))
+        flow = best_of(musts, worths, (0, 1))[3]
+        self.assertEqual(flow, (((0, 2), (2, 2), (2, 1)), ((2, 2), (2, 0), (7, 1))))
+        self.assertEqual(lets_best(musts, worths, (0, 1), ((), flow)), (0, 1))
+
     def test_several_roots(self):
         # Worths that are not small, and that are quotients with unlike bottoms.
         worths = tuple((p, pair_of(Fraction(k * k - 7, k + 2))) for k, p in enumerate(MUSTS.all_points()))

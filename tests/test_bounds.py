@@ -3,7 +3,7 @@
 import unittest
 from fractions import Fraction
 
-from meshtools import (F, FIELD_WRONGS, MARKED_FIELDS, MESH, OFF_PLACES, WRONG_DEEPS, as_fraction, draw_fields, draw_mesh, draw_some_place,
+from meshtools import (F, FIELD_WRONGS, M, MARKED_FIELDS, MESH, OFF_PLACES, WRONG_DEEPS, as_fraction, draw_fields, draw_mesh, draw_some_place,
                        holding, place_weights, straight, surplus, value)
 from tools import check_parameters, pair_of
 from wholefaces.bounds import bound_at, parts_at
@@ -71,6 +71,7 @@ class BoundsTest(unittest.TestCase):
     def test_parameters(self):
         good = [("mesh", MESH), ("fields", F), ("field", "f"), ("deep", 2), ("place", (1, 0, 1))]
         for function in (parts_at, bound_at):
+            check_parameters(self, function, [("mesh", M)] + good[1:], {"deep": WRONG_DEEPS + (1,)})
             check_parameters(self, function, good, {**FIELD_WRONGS, "deep": WRONG_DEEPS, "place": OFF_PLACES})
 
 

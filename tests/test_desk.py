@@ -250,6 +250,13 @@ class DeskTest(unittest.TestCase):
                 else:
                     self.assertEqual(desk.ask(line), answer)
 
+    def test_why_in_all_words(self):
+        desk = Desk(BASE.replace("cubes 1", "cubes 2").replace("solid all", "solid box (0, 0) (8, 4)") + "wish a : bad (r1, r1.1)\n")
+        self.assertEqual(desk.ask("why (6, 2)"), "(2, 2): root r1\n(4, 2): bad r1.1\n(6, 2): need\n")
+        self.assertEqual(desk.ask("chain a : bad (r1, r1.1, r2.0, r2.00)"),
+                         "(2, 2): root r1\n(4, 2): bad r1.1\n(6, 2): need\n(6, 0): bad r2.0\nbar: bad r2.00\n")
+        self.assertEqual(desk.ask("why (6, 0)"), "free\n")
+
     def test_changes_and_undo(self):
         desk = Desk(PLAN)
         for line, answer in (("drop a", "yes: 2\n"), ("wish  c:bad (r0)", "yes: 5\n"), ("wish c : bad ()", "no: NotUsable\n"), ("change c : bad ()", "yes: 2\n")):

@@ -3,7 +3,7 @@
 import unittest
 from fractions import Fraction
 
-from meshtools import F, FIELD_WRONGS, FLAT, FRAME, MESH, WRONG_DEEPS, WRONG_FIELD_NAMES, as_fraction, draw_fields, draw_mesh
+from meshtools import F, FIELD_WRONGS, FLAT, FRAME, M, MESH, WRONG_DEEPS, WRONG_FIELD_NAMES, as_fraction, draw_fields, draw_mesh
 from musttools import Known, draw_frame, error_oracle, names_within
 from tools import SQUARE, WRONG_QUOTIENTS, check_parameters, pair_of
 from wholefaces.carrying import carrying_lot
@@ -75,6 +75,8 @@ class FineTest(unittest.TestCase):
     def test_parameters(self):
         good = [("mesh", MESH), ("fields", F), ("field", "f"), ("deep", 2)]
         check_parameters(self, errors_over, good, {**FIELD_WRONGS, "deep": WRONG_DEEPS})
+        # M has blocks of generations 1 and 2.
+        check_parameters(self, errors_over, [("mesh", M)] + good[1:], {"deep": WRONG_DEEPS + (1,)})
         tolerances = WRONG_QUOTIENTS + ((-1, 1), (-1, 2), 0)
         good = [("frame", FRAME), ("field", "f"), ("tolerance", (7, 2))]
         check_parameters(self, nearest_lot, good, {"field": WRONG_FIELD_NAMES, "tolerance": tolerances})

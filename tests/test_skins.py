@@ -96,6 +96,7 @@ class SkinsTest(unittest.TestCase):
         for function in (skin_of, skin_sides):
             check_parameters(self, function, good, {**FIELD_WRONGS, "c": WRONG_C})
         good = [("space", PLANE), ("fields", MARKED_FIELDS), ("field", "f"), ("c", 8), ("inner", (4, 4)), ("outer", (2, 2))]
+        check_parameters(self, crossing_of, good[:3] + [("c", 9)] + good[4:], {"inner": ((2, 4), (-2, 0)), "outer": ((3, 0), (-3, 5), (4, 4))})
         inner = WRONG_POINTS + ((2, 2), (-2, 9), (0, 0))
         outer = WRONG_POINTS + ((4, 4), (3, 0), (-3, 1))
         check_parameters(self, crossing_of, good, {**FIELD_WRONGS, "c": WRONG_C, "inner": inner, "outer": outer})

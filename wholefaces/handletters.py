@@ -17,7 +17,7 @@ def is_hand_deed(hands, thing):
     if not isinstance(thing, tuple) or len(thing) == 0:
         return False
     word, numbers = thing[0], thing[1:]
-    if not isinstance(word, str) or NUMBERS_BEHIND.get(word, 0) != len(numbers) or len(numbers) == 0:
+    if not isinstance(word, str) or NUMBERS_BEHIND.get(word) != len(numbers):
         return False
     if not all([is_number(number) for number in numbers]):
         return False
@@ -44,9 +44,9 @@ def do_deed(hands, deed):
 def part_of(hands, hand):
     """The names of the blocks that come of the hand's roots, just those being halved whose middle it knows."""
     demand(isinstance(hands, Hands), "hands")
-    demand(hands.is_hand(hand), "hand")
+    known = hands.known(hand)
     frame, _, owners = hands.told()
-    leaves = leaves_by_points(frame[0], hands.known(hand))
+    leaves = leaves_by_points(frame[0], known)
     return tuple([name for name, _ in leaves if owners[name[0]] == hand])
 
 

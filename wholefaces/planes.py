@@ -6,12 +6,9 @@ from wholefaces.slopes import minus_rows
 
 
 def cleared(row, pivot_row, column):
-    """The row, less as much of the pivot row as leaves nought in the column; over what all its integers share."""
+    """The row, a few times, less as much of the pivot row as leaves nought in the column."""
     factor, pivot = row[column], pivot_row[column]
-    if factor == 0:
-        return row
-    changed = [pivot * number - factor * other for number, other in zip(row, pivot_row)]
-    return list(lowest_terms(changed)) if any(changed) else changed
+    return [pivot * number - factor * other for number, other in zip(row, pivot_row)]
 
 
 def pivot_below(rows, done, column):
