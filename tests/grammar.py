@@ -27,14 +27,14 @@ def rules_for(dims, kind):
 
 
 def fits(symbol, word, dims, names):
-    """Whether a word is of a kind that is no rule; names are a dict from NAME, REGNAME, FIELD to names."""
+    """Whether a word is of a kind that is no rule; names are a dict from NAME, REGNAME, FIELD, WORTH to names."""
     if symbol == "NUMBER":
         return re.fullmatch("0|[1-9][0-9]{0,6}", word) is not None
     if symbol == "AXIS":
         return word in ("x", "y", "z")[:dims]
     if symbol == "BLOCK":
         return re.fullmatch(r"r(0|[1-9][0-9]{0,6})(\.[01]+)?", word) is not None
-    if symbol in ("NAME", "REGNAME", "FIELD"):
+    if symbol in ("NAME", "REGNAME", "FIELD", "WORTH"):
         return word in names.get(symbol, ())
     return symbol == word
 

@@ -4,7 +4,7 @@ import random
 import re
 import unittest
 
-from grammar import opened, parted, rules_for, spaced
+from grammar import fits, opened, parted, rules_for, spaced
 from test_treekinds import PLAN
 from tools import WRONG_TEXTS, check_parameters
 from trees import random_point, random_test, spoilt
@@ -26,19 +26,11 @@ WORDS = ["wish", "change", "chain", "drop", "implies", "corner", "why", "blame",
 FREE_WORDS = [word for word in WORDS[:18] if word not in RESERVED]
 
 
-def fits(symbol, word, dims, names):
+def may_stand(symbol, word, dims, names):
     """Whether a word is of a kind that is no rule."""
     if symbol == "NEW":
         return re.fullmatch("[a-z][a-z0-9]{0,11}", word) is not None and word not in RESERVED
-    if symbol == "NUMBER":
-        return re.fullmatch("0|[1-9][0-9]{0,6}", word) is not None
-    if symbol == "AXIS":
-        return word in ("x", "y", "z")[:dims]
-    if symbol == "BLOCK":
-        return re.fullmatch(r"r(0|[1-9][0-9]{0,6})(\.[01]+)?", word) is not None
-    if symbol in names:
-        return word in names[symbol]
-    return symbol == word
+    return fits(symbol, word, dims, names)
 
 
 def wrong_at(plan, line):
@@ -49,7 +41,7 @@ def wrong_at(plan, line):
     stacks = {("LINE",)}
     for word, at in pairs:
         stacks = {found for stack in stacks for found in opened(rules, stack)}
-        stacks = {stack[1:] for stack in stacks if stack and fits(stack[0], word, plan[0], names)}
+        stacks = {stack[1:] for stack in stacks if stack and may_stand(stack[0], word, plan[0], names)}
         if not stacks:
             return at
     if end < len(line):

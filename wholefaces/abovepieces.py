@@ -15,8 +15,9 @@ def inner_links(mesh, inner):
     return links
 
 
-def pieces_made(mesh, fields, field, c):
-    """The classes of inner corners that links make, in order, by their first corners in order."""
+def pieces_above(mesh, fields, field, c):
+    """The classes of inner corners, linked if one block has both: each in order, by their first corners in order."""
+    demand_skin(mesh, fields, field, c)
     inner = inner_corners(mesh, fields, field, c)
     links = inner_links(mesh, inner)
     seen = {}
@@ -29,17 +30,10 @@ def pieces_made(mesh, fields, field, c):
     return tuple(pieces)
 
 
-def pieces_above(mesh, fields, field, c):
-    """The classes of inner corners, linked if one block has both: each in order, by their first corners in order."""
-    demand_skin(mesh, fields, field, c)
-    return pieces_made(mesh, fields, field, c)
-
-
 def inner_parts(mesh, fields, field, c):
     """For each of these classes the names, ascending, of the blocks with a corner in it."""
-    demand_skin(mesh, fields, field, c)
     nodes = named_blocks(mesh)
     parts = []
-    for piece in pieces_made(mesh, fields, field, c):
+    for piece in pieces_above(mesh, fields, field, c):
         parts.append(tuple([name for name, block in nodes if any([corner in piece for corner in block])]))
     return tuple(parts)

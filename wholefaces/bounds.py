@@ -9,8 +9,8 @@ from wholefaces.quotients import quotient_of
 from wholefaces.weights import weights_made
 
 
-def parts_made(mesh, fields, field, deep, place):
-    """The triples (middle, surplus, weight) for the blocks halved on the way to the place; checks all but the mesh."""
+def parts_at(mesh, fields, field, deep, place):
+    """The triples (middle, surplus, weight) for the blocks halved on the way to the place, down to generation deep."""
     dims = mesh_space(mesh)[0]
     demand_field(dims, fields, field)
     demand_deep(mesh, deep)
@@ -30,12 +30,7 @@ def parts_made(mesh, fields, field, deep, place):
     return tuple(parts)
 
 
-def parts_at(mesh, fields, field, deep, place):
-    """The triples (middle, surplus, weight) for the blocks halved on the way to the place, down to generation deep."""
-    return parts_made(mesh, fields, field, deep, place)
-
-
 def bound_at(mesh, fields, field, deep, place):
     """Half the sum of these surpluses, without their signs, a quotient."""
-    parts = parts_made(mesh, fields, field, deep, place)
+    parts = parts_at(mesh, fields, field, deep, place)
     return quotient_of(sum([abs(surplus) for _, surplus, _ in parts]), 2)

@@ -8,7 +8,7 @@ from wholefaces.charts import BAR
 from wholefaces.checks import demand
 from wholefaces.counts import by_generation, many_of
 from wholefaces.deskwords import read_line
-from wholefaces.desklines import block_line, chain_lines, names_line, places_line, points_line, stair_line, text_of
+from wholefaces.desklines import block_line, chain_lines, names_line, points_line, skin_line, stair_line, text_of
 from wholefaces.desklines import walk_line
 from wholefaces.errors import InvalidText, NoDeed, NotStanding, NotUsable, Refused
 from wholefaces.forms import form_of
@@ -162,8 +162,8 @@ class Desk:
             return [walk_line(space, first, last, corners) for first, last, corners in parts]
         lines = []
         for name, row in skin_of(mesh, fields, told[1], told[2]):
-            places = [crossing_of(space, fields, told[1], told[2], inner, outer) for inner, outer in row]
-            lines.append(f"{names_line((name,))} {places_line(space, places)}")
+            crossings = [crossing_of(space, fields, told[1], told[2], inner, outer) for inner, outer in row]
+            lines.append(skin_line(space, name, crossings))
         return lines
 
 

@@ -16,11 +16,6 @@ def points_line(space, points):
     return " ".join([point_line(space, point) for point in points])
 
 
-def places_line(space, places):
-    """The line of a few places."""
-    return " ".join([place_line(space, place) for place in places])
-
-
 def names_line(names):
     """The line of the names of a few blocks."""
     return " ".join([block_word(name) for name in names])
@@ -50,6 +45,11 @@ def chain_lines(musts, thing):
     whys = [musts.why_source(chain[0])]
     whys.extend([musts.why(chain[k - 1], chain[k]) for k in range(1, len(chain))])
     return [f"{thing_words(space, one)}: {why_words(why)}" for one, why in zip(chain, whys)]
+
+
+def skin_line(space, name, crossings):
+    """The line of a block with the places at which its skin crosses its edges."""
+    return " ".join([block_word(name)] + [place_line(space, place) for place in crossings])
 
 
 def stair_line(price, end, many):

@@ -14,7 +14,8 @@ def root_line(space, root, bits):
     """The line of a root with its bits."""
     cube = root_cube(space, root)
     numbers = ",".join([str(number) for number in cube])
-    return f"{numbers}/{roots_made(space, cube).index(root)} {bits}\n"
+    place = roots_made(space, cube).index(root)
+    return f"{numbers}/{place} {bits}\n"
 
 
 def form_of(mesh):
