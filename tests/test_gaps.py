@@ -75,6 +75,9 @@ class GapsTest(unittest.TestCase):
                     good = [("space", PLANE), ("level", level), ("low", (0, 0))]
                     check_parameters(self, cube_box, good, {"low": (low,)})
         self.assertEqual(cube_box((3, 0), 0, (1, -1, 0)), ((1, -1, 0), (2, 0, 1)))
+        self.assertEqual(cube_box((2, 3), 3, (5, -1)), ((5, -1), (6, 0)))
+        good = [("space", (3, 1)), ("level", 1), ("low", (1, 1, 1))]
+        check_parameters(self, cube_box, good, {"level": (2, 3)})
 
     def test_parameters(self):
         good = [("one", ((0, 0), (4, 4))), ("other", ((6, 1), (8, 9)))]

@@ -163,7 +163,7 @@ class PlanTextsTest(unittest.TestCase):
                 (full + "wish b = in a", 9, 7), (full + "wish b : in f", 9, 12), (full + "wish abcdefghijklm : in a", 9, 5),
                 (full + "wish b : least f", 9, 16), (full + "wish b : least a < 1", 9, 15), (full + "deep 2", 9, 0),
                 (head + "solid box (0, 0) (1, 1)\nworth w = low z", 5, 14), (head + "solid upto x - y <= 3", 4, 20),
-                ("space 2\nrounds 6\nx", 1, 7), ("\n\n;", 2, 0)):
+                ("space 2\nrounds 6\nx", 1, 7), ("\n\n;", 2, 0), ("q", 0, 0), (full + "q q", 9, 0)):
             check_wrong_text(self, read_plan, text, at, line)
             self.assertEqual(oracle_error(text), (line, at))
 

@@ -1,10 +1,12 @@
 """Quotients, [14]."""
 
+import random
 import unittest
 from fractions import Fraction
+from math import gcd
 
 from tools import WRONG_INTEGERS, WRONG_QUOTIENTS, check_parameters, pair_of
-from wholefaces.quotients import less, minus, over, plus, quotient_of, times
+from wholefaces.quotients import added, less, minus, over, plus, quotient_of, rising, scaled, times
 
 BIG = 10 ** 40 - 1
 
@@ -33,6 +35,17 @@ class QuotientsTest(unittest.TestCase):
                 self.assertIs(less(one, other), a < b)
                 if b != 0:
                     self.assertEqual(over(one, other), pair_of(a / b))
+
+    def test_rows(self):
+        rolls = random.Random(14)
+        for many in range(6):
+            row = [Fraction(rolls.randrange(-9, 10), rolls.randrange(1, 9)) for _ in range(many)]
+            pairs = [pair_of(number) for number in row]
+            self.assertEqual(added(pairs), pair_of(sum(row, Fraction(0))))
+            self.assertEqual(rising(pairs + pairs[:2]), [pair_of(number) for number in sorted(set(row))])
+            tops, bottom = scaled(pairs)
+            self.assertEqual([Fraction(top, bottom) for top in tops], row)
+            self.assertEqual(gcd(bottom, *tops), 1)
 
     def test_parameters(self):
         good = [("top", 6), ("bottom", -4)]
