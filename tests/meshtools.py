@@ -4,7 +4,7 @@ from fractions import Fraction
 from math import gcd
 
 from test_fieldvalues import oracle_value
-from tools import PLANE, SQUARE, WRONG_INTEGERS, WRONG_NUMBERS, WRONG_PLACES
+from tools import SQUARE, WRONG_INTEGERS, WRONG_NUMBERS, WRONG_PLACES
 from trees import random_expression
 from wholefaces.meshclasses import Mesh
 from worlds import fraction_weights

@@ -3,7 +3,7 @@
 import unittest
 from fractions import Fraction
 
-from meshtools import FLAT, as_fraction
+from meshtools import FLAT
 from musttools import BAR, REFUSING
 from test_flows import AMOUNTS, GIFT, NO_FLOWS
 from tools import ODDS, SQUARE, check_parameters, deep, pair_of
@@ -14,7 +14,7 @@ from wholefaces.flows import is_flow
 from wholefaces.mustclasses import Musts
 from wholefaces.stairpapers import most_worth, stair_paper
 from wholefaces.stairs import stairs_of
-from worlds import OPEN_LOTS, WRONG_LOTS
+from worlds import OPEN_LOTS, WRONG_LOTS, World
 from worthtools import DEEP_WORTHS, MUSTS, W, WRONG_PRICES, WRONG_WORTHS, draw_flow, markets, owns_oracle, value_oracle
 
 ALL = ((2, 2), (0, 2), (2, 0), (2, 4), (4, 2))
@@ -163,13 +163,12 @@ class BestTest(unittest.TestCase):
         self.assertEqual(flow, (((0, 2), (2, 2), (2, 1)), ((2, 2), (2, 0), (7, 1))))
         self.assertEqual(lets_best(musts, worths, (0, 1), ((), flow)), (0, 1))
 
-    def test_several_roots(self):
-        # Worths that are not small, and that are quotients with unlike bottoms.
+    def test_unlike_bottoms(self):
         worths = tuple((p, pair_of(Fraction(k * k - 7, k + 2))) for k, p in enumerate(MUSTS.all_points()))
         least, greatest, told, flow = best_of(MUSTS, worths, (1, 97))
         self.assertEqual(lets_best(MUSTS, worths, (1, 97), (least, flow)), told)
         self.assertEqual(lets_best(MUSTS, worths, (1, 97), (greatest, flow)), told)
-        self.assertEqual(sum(as_fraction(own) for _, own in worths if _ in least) - Fraction(len(least) + 1, 97) * (len(least) > 0), as_fraction(told))
+        self.assertEqual(pair_of(value_oracle(World(SQUARE), worths, Fraction(1, 97), least)), told)
 
     def test_parameters(self):
         wrong = {"worths": WRONG_WORTHS + DEEP_WORTHS, "price": WRONG_PRICES}

@@ -1,10 +1,9 @@
 """Meshes told root by root: a 1 for each block that is halved, a 0 for each that is not."""
 
-from wholefaces.blockparts import block_middle
 from wholefaces.checks import demand
 from wholefaces.closing import first_missing
 from wholefaces.errors import InvalidForm, InvalidText, NotClosed
-from wholefaces.members import block_by_name
+from wholefaces.members import middle_named
 from wholefaces.nodes import halved_by_points, top_of
 from wholefaces.orders import in_order
 
@@ -37,31 +36,24 @@ def bits_from(text, at, top):
 
 def lot_told(solid, halved):
     """The lot of the middles of these halved blocks; raises NotClosed if it is not closed."""
-    middles = [block_middle(block_by_name(solid, name), len(name[1])) for name in halved]
-    lot = in_order(solid[0], tuple(middles))
+    lot = in_order(solid[0], tuple([middle_named(solid, name) for name in halved]))
     missing = first_missing(solid, lot)
     if missing is not None:
         raise NotClosed(missing[0], missing[1])
     return lot
 
 
-def first_unlike(solid, lot, whole):
-    """The place in a row of names of the first block that is whole although its middle is in the lot, or None."""
+def checked_lot(solid, nodes):
+    """The lot that nodes tell: quadruples (name, whether halved, line and place of the sign).
+
+    Raises NotClosed if the lot is not closed, InvalidForm for the first block that is whole though its middle is in it.
+    """
+    lot = lot_told(solid, [name for name, halved, _, _ in nodes if halved])
     there = {point: True for point in lot}
     top = top_of(solid)
-    for k, name in enumerate(whole):
-        if len(name[1]) < top and block_middle(block_by_name(solid, name), len(name[1])) in there:
-            return k
-    return None
-
-
-def checked_lot(solid, nodes):
-    """The lot that nodes tell, quadruples (name, whether halved, line, at), and where the first fault of a 0 is."""
-    lot = lot_told(solid, [name for name, halved, _, _ in nodes if halved])
-    whole = [(name, line, at) for name, halved, line, at in nodes if not halved]
-    k = first_unlike(solid, lot, [name for name, _, _ in whole])
-    if k is not None:
-        raise InvalidForm(whole[k][1], whole[k][2])
+    for name, halved, line, at in nodes:
+        if not halved and len(name[1]) < top and middle_named(solid, name) in there:
+            raise InvalidForm(line, at)
     return lot
 
 

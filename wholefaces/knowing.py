@@ -1,10 +1,9 @@
 """Which mesh has given bodies as its blocks."""
 
-from wholefaces.blockparts import block_middle
 from wholefaces.checks import demand
 from wholefaces.closing import first_missing
 from wholefaces.kinds import is_body
-from wholefaces.members import block_by_name, member_generation, name_made
+from wholefaces.members import member_generation, middle_named, name_made
 from wholefaces.nodes import leaves_by_points
 from wholefaces.orders import in_order
 from wholefaces.parents import ordered
@@ -22,8 +21,7 @@ def known_name(solid, body):
 def middles_ahead(solid, names):
     """The middles of all blocks of which blocks with these names come, in order."""
     ahead = {(number, path[:k]): True for number, path in names for k in range(len(path))}
-    middles = [block_middle(block_by_name(solid, name), len(name[1])) for name in ahead]
-    return in_order(solid[0], tuple(middles))
+    return in_order(solid[0], tuple([middle_named(solid, name) for name in ahead]))
 
 
 def known_lot(solid, bodies):

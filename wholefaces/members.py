@@ -63,6 +63,11 @@ def block_by_name(solid, name):
     return block_along(solid[1][number], path)
 
 
+def middle_named(solid, name):
+    """The middle of the block with this name, of a generation below top."""
+    return block_middle(block_by_name(solid, name), len(name[1]))
+
+
 def demand_generation(solid, generation):
     """Raises NotUsable unless the generation is a number from 0 to top."""
     demand(is_number(generation) and generation <= top_of(solid), "generation")

@@ -1,20 +1,15 @@
 """Tales: blocks halved one after the other, each with all that this brings along; and why a point came."""
 
-from wholefaces.blockparts import block_middle, low_round
+from wholefaces.blockparts import low_round
 from wholefaces.checks import demand
 from wholefaces.errors import InvalidPaper
 from wholefaces.gaps import box_gap
 from wholefaces.kinds import is_number, is_point
-from wholefaces.members import block_by_name, is_name, needs_in
+from wholefaces.members import block_by_name, is_name, middle_named, needs_in
 from wholefaces.nodes import top_of
 from wholefaces.orders import in_order
 from wholefaces.plains import is_starred
 from wholefaces.seats import point_level, point_seat
-
-
-def middle_named(solid, name):
-    """The middle of the block with this name."""
-    return block_middle(block_by_name(solid, name), len(name[1]))
 
 
 def is_leaf(solid, births, name):
